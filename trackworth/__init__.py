@@ -1,0 +1,1 @@
+"""Trackworth: what the tracks between two rows of lanes can sort."""

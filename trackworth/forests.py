@@ -1,0 +1,24 @@
+"""Forests: as many tracks of a pick as there can be without a ring."""
+
+from trackworth.picks import need_pick
+from trackworth.webs import alone, ends, linked, rank
+from trackworth.yards import all_tracks
+
+
+def forest(yard, pick):
+    """Return the tracks of the pick that, one after the other, close no ring with those taken before."""
+    need_pick(yard, pick)
+    taken = []
+    roots = alone(yard)
+    for t in pick:
+        one, other = ends(yard, t)
+        # A track closes a ring exactly if its two lanes hang together already.
+        if roots[one] != roots[other]:
+            taken.append(t)
+            roots = linked(roots, one, other)
+    return tuple(taken)
+
+
+def worth(yard):
+    """Return the rank of all tracks of the yard."""
+    return rank(yard, all_tracks(yard))
