@@ -15,9 +15,19 @@ INTERFACE = {
     "webs": {"pieces": "yard pick", "rank": "yard pick"},
     "rings": {"ring": "yard pick", "serves": "yard pick", "ring_right": "yard pick thing"},
     "forests": {"forest": "yard pick", "worth": "yard"},
+    "rows": {"made_row": "thing", "is_row": "thing", "places": "row", "joined": "one two"},
+    "falls": {"layers": "row", "falls": "row", "falling": "row", "falling_right": "row thing"},
+    "dealings": {
+        "made_dealing": "yard row thing", "is_dealing": "yard row thing", "fallen": "yard row dealing",
+    },
+    "waits": {"waits_for": "yard row dealing x", "order": "yard row dealing", "stuck": "yard row dealing"},
+    "kernel": {
+        "order_right": "yard row dealing thing", "stuck_right": "yard row dealing thing",
+        "refuted_right": "yard row dealing thing", "cheapest_right": "yard prices m pick",
+    },
 }
 
-# Calls that are answered; the last two arguments are lists, which a judge has to leave as they are.
+# Calls that are answered. A list is no right argument, but a judge that is handed one has to leave it as it is.
 CALLS = (
     ("yards", "made_yard", (SQUARE,)),
     ("yards", "is_yard", (SQUARE,)),
@@ -33,6 +43,32 @@ CALLS = (
     ("rings", "ring_right", (SQUARE, [0, 1, 2, 3], [0, 1, 3, 2])),
     ("forests", "forest", (SQUARE, (0, 1, 2, 3))),
     ("forests", "worth", (SQUARE,)),
+    ("rows", "made_row", ((1, 0),)),
+    ("rows", "is_row", ((1, 0),)),
+    ("rows", "is_row", ([1, 0],)),
+    ("rows", "places", ((2, 0, 3, 1),)),
+    ("rows", "joined", ((1, 0), (0, 2, 1))),
+    ("falls", "layers", ((3, 0, 4, 2, 1),)),
+    ("falls", "falls", ((3, 0, 4, 2, 1),)),
+    ("falls", "falling", ((3, 0, 4, 2, 1),)),
+    ("falls", "falling_right", ((3, 0, 4, 2, 1), (3, 1))),
+    ("falls", "falling_right", ((3, 0, 4, 2, 1), [3, 1])),
+    ("dealings", "made_dealing", (SQUARE, (1, 0), (0, 3))),
+    ("dealings", "is_dealing", (SQUARE, (1, 0), (0, 3))),
+    ("dealings", "is_dealing", (SQUARE, [1, 0], [0, 3])),
+    ("dealings", "fallen", (SQUARE, (1, 0), (2, 2))),
+    ("dealings", "fallen", (SQUARE, (1, 0), (2, 3))),
+    ("waits", "waits_for", (SQUARE, (3, 2, 1, 0), (0, 1, 2, 3), 2)),
+    ("waits", "order", (SQUARE, (3, 2, 1, 0), (0, 1, 2, 3))),
+    ("waits", "stuck", (SQUARE, (3, 0, 1, 2), (0, 1, 3, 2))),
+    ("kernel", "order_right", (SQUARE, (3, 2, 1, 0), (0, 1, 2, 3), (1, 3, 0, 2))),
+    ("kernel", "order_right", (SQUARE, (3, 2, 1, 0), (0, 1, 2, 3), [1, 3, 0, 2])),
+    ("kernel", "stuck_right", (SQUARE, (3, 0, 1, 2), (0, 1, 3, 2), (3, 2, 1, 0))),
+    ("kernel", "stuck_right", (SQUARE, [3, 0, 1, 2], [0, 1, 3, 2], [3, 2, 1, 0])),
+    ("kernel", "refuted_right", (SQUARE, (1, 0), (2, 2), ("fall", (1, 0)))),
+    ("kernel", "refuted_right", (SQUARE, (1, 0), (2, 2), ["fall", [1, 0]])),
+    ("kernel", "cheapest_right", (SQUARE, (5, 1, 1, 1), 3, (1, 2, 3))),
+    ("kernel", "cheapest_right", (SQUARE, [5, 1, 1, 1], 3, [1, 2, 3])),
 )
 
 
@@ -78,6 +114,13 @@ class GeneralRulesTest(unittest.TestCase):
             before = copy.deepcopy(arguments)
             function_of(module, name)(*arguments)
             assert_same(self, arguments, before)
+
+    def test_what_is_returned_is_fresh(self):
+        for module, name, arguments in CALLS:
+            found = function_of(module, name)(*arguments)
+            if isinstance(found, tuple):
+                for argument in arguments:
+                    self.assertIsNot(found, argument, name)
 
     def test_only_the_promised_kinds_are_returned(self):
         for module, name, arguments in CALLS:
