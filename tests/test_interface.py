@@ -25,7 +25,15 @@ INTERFACE = {
         "order_right": "yard row dealing thing", "stuck_right": "yard row dealing thing",
         "refuted_right": "yard row dealing thing", "cheapest_right": "yard prices m pick",
     },
+    "plans": {"plan": "yard pick row"},
+    "solver": {"some_dealing": "yard row"},
+    "stands": {"is_stand": "yard row thing", "begun": "yard row", "all_home": "stand"},
+    "signals": {"greens": "yard row dealing stand"},
+    "engine": {"moved": "yard row stand move"},
+    "moves": {"told_moves": "yard row dealing", "run": "yard row dealing picks"},
 }
+
+STAND = ((0,), ((1,), ()), ((), ()), 0)
 
 # Calls that are answered. A list is no right argument, but a judge that is handed one has to leave it as it is.
 CALLS = (
@@ -69,6 +77,20 @@ CALLS = (
     ("kernel", "refuted_right", (SQUARE, (1, 0), (2, 2), ["fall", [1, 0]])),
     ("kernel", "cheapest_right", (SQUARE, (5, 1, 1, 1), 3, (1, 2, 3))),
     ("kernel", "cheapest_right", (SQUARE, [5, 1, 1, 1], 3, [1, 2, 3])),
+    ("plans", "plan", (SQUARE, (0, 1, 2, 3), (3, 0, 4, 2, 1))),
+    ("plans", "plan", (SQUARE, (0, 1), (3, 0, 4, 2, 1))),
+    ("solver", "some_dealing", (SQUARE, (1, 0))),
+    ("solver", "some_dealing", (SQUARE, (3, 2, 1, 0))),
+    ("solver", "some_dealing", (SQUARE, (4, 3, 2, 1, 0))),
+    ("stands", "is_stand", (SQUARE, (1, 0), STAND)),
+    ("stands", "is_stand", (SQUARE, [1, 0], [[0], [[1], []], [[], []], 0])),
+    ("stands", "begun", (SQUARE, (1, 0))),
+    ("stands", "all_home", (STAND,)),
+    ("signals", "greens", (SQUARE, (1, 0), (0, 3), STAND)),
+    ("engine", "moved", (SQUARE, (1, 0), STAND, ("in", 1))),
+    ("engine", "moved", (SQUARE, (1, 0), STAND, ("over", 1))),
+    ("moves", "told_moves", (SQUARE, (1, 0), (0, 3))),
+    ("moves", "run", (SQUARE, (1, 0), (0, 3), (0, 1, 3))),
 )
 
 
@@ -79,15 +101,18 @@ def function_of(module, name):
 
 class InterfaceTest(unittest.TestCase):
 
+    def assert_takes(self, function, arguments):
+        """The function takes just these arguments, by position or by name."""
+        parameters = inspect.signature(function).parameters.values()
+        self.assertEqual([parameter.name for parameter in parameters], arguments.split(), function)
+        for parameter in parameters:
+            self.assertIs(parameter.default, inspect.Parameter.empty)
+            self.assertIs(parameter.kind, inspect.Parameter.POSITIONAL_OR_KEYWORD)
+
     def test_functions_and_their_arguments(self):
         for module, functions in INTERFACE.items():
             for name, arguments in functions.items():
-                function = function_of(module, name)
-                parameters = inspect.signature(function).parameters.values()
-                self.assertEqual([parameter.name for parameter in parameters], arguments.split(), name)
-                for parameter in parameters:
-                    self.assertIs(parameter.default, inspect.Parameter.empty)
-                    self.assertIs(parameter.kind, inspect.Parameter.POSITIONAL_OR_KEYWORD)
+                self.assert_takes(function_of(module, name), arguments)
 
     def test_each_function_is_defined_in_its_file(self):
         for module, functions in INTERFACE.items():
