@@ -36,6 +36,10 @@ BARRED_NODES = (
 )
 
 
+# The methods without an object of their own, each with its file.
+STATIC = (("journal", "again"),)
+
+
 def trees():
     """The name and the tree of each file of the package."""
     return [(path.stem, ast.parse(path.read_text("ascii"))) for path in sorted(PACKAGE.glob("*.py"))]
@@ -57,6 +61,17 @@ def bound_names(tree):
         elif isinstance(node, ast.Name) and not isinstance(node.ctx, ast.Load):
             found.append(node.id)
     return found
+
+
+def own_methods():
+    """The names of the methods of the package's classes."""
+    found = [told.name for _, node in nodes(ast.ClassDef) for told in node.body if isinstance(told, ast.FunctionDef)]
+    return set(found) - {"__init__"}
+
+
+def own_attributes():
+    """The names of the attributes that the package assigns."""
+    return {node.attr for _, node in nodes(ast.Attribute) if isinstance(node.ctx, ast.Store)}
 
 
 def top_names(tree):
@@ -162,7 +177,10 @@ class StatementsTest(unittest.TestCase):
 
     def test_functions_are_plain(self):
         for name, node in nodes((ast.FunctionDef, ast.ClassDef)):
-            self.assertEqual(node.decorator_list, [], name)
+            if (name, node.name) in STATIC:
+                self.assertEqual([told.id for told in node.decorator_list], ["staticmethod"])
+            else:
+                self.assertEqual(node.decorator_list, [], name)
         for name, node in nodes(ast.FunctionDef):
             told = node.args
             self.assertIsNone(told.vararg)
@@ -192,9 +210,11 @@ class StatementsTest(unittest.TestCase):
 class NamesTest(unittest.TestCase):
 
     def test_builtins_are_those_that_may_be_used(self):
-        for name, node in nodes(ast.Name):
-            if node.id in dir(builtins):
-                self.assertIn(node.id, BUILTINS, name)
+        for name, tree in trees():
+            decorators = [told for node in ast.walk(tree) for told in getattr(node, "decorator_list", [])]
+            for node in ast.walk(tree):
+                if isinstance(node, ast.Name) and node.id in dir(builtins) and node not in decorators:
+                    self.assertIn(node.id, BUILTINS, name)
 
     def test_no_name_means_something_else(self):
         for name, tree in trees():
@@ -215,9 +235,21 @@ class NamesTest(unittest.TestCase):
             for word in ("type", "typing", "enum", "namedtuple", "dataclass", "_wall", "_WallAttr"):
                 self.assertNotIn(word, words, path.name)
 
-    def test_methods_are_those_of_builtin_values(self):
+    def test_methods_are_those_of_builtin_values_or_own(self):
         for name, node in nodes(ast.Attribute):
-            self.assertIn(node.attr, METHODS | {"what"}, name)
+            self.assertIn(node.attr, METHODS | own_methods() | own_attributes(), name)
+
+    def test_own_methods_and_attributes_have_names_of_their_own(self):
+        builtin = [name for kind in (str, bytes, int, list, tuple, dict, set) for name in dir(kind)]
+        self.assertEqual(own_methods() & own_attributes(), set())
+        for name in own_methods() | own_attributes():
+            self.assertNotIn(name, builtin)
+            self.assertNotIn(name, BARRED)
+
+    def test_attributes_are_assigned_through_a_local_name(self):
+        for name, node in nodes(ast.Attribute):
+            if isinstance(node.ctx, ast.Store):
+                self.assertIn(node.value.id, ("self", "made"), name)
 
     def test_sets_are_only_measured_sorted_or_asked(self):
         for name, tree in trees():

@@ -31,7 +31,24 @@ INTERFACE = {
     "signals": {"greens": "yard row dealing stand"},
     "engine": {"moved": "yard row stand move"},
     "moves": {"told_moves": "yard row dealing", "run": "yard row dealing picks"},
+    "journal": {"replayed": "yard row journal", "opened": "yard row journal stand"},
+    "badrows": {"bad_row": "yard pick"},
+    "refuter": {"refuted": "yard row dealing"},
+    "worths": {"adds": "yard a b", "counts": "yard track"},
+    "prices": {"made_prices": "yard thing", "cheapest": "yard prices m"},
 }
+
+# For each module its classes, the errors left out: the arguments, and the methods with theirs.
+CLASSES = {
+    "journal": {
+        "Engine": ("yard row dealing", {
+            "stand": "", "journal": "", "greens": "", "home": "", "do": "move", "cut": "move done",
+            "again": "yard row dealing journal stand",
+        }),
+    },
+}
+
+STATIC = ("again",)
 
 STAND = ((0,), ((1,), ()), ((), ()), 0)
 
@@ -91,6 +108,18 @@ CALLS = (
     ("engine", "moved", (SQUARE, (1, 0), STAND, ("over", 1))),
     ("moves", "told_moves", (SQUARE, (1, 0), (0, 3))),
     ("moves", "run", (SQUARE, (1, 0), (0, 3), (0, 1, 3))),
+    ("journal", "replayed", (SQUARE, (1, 0), (("in", 0),))),
+    ("journal", "opened", (SQUARE, (1, 0), (("in", 0),), STAND)),
+    ("journal", "opened", (SQUARE, (1, 0), (("in", 0), ("over", 0)), STAND)),
+    ("badrows", "bad_row", (SQUARE, (0, 1, 2, 3))),
+    ("badrows", "bad_row", (SQUARE, (0, 1, 2))),
+    ("refuter", "refuted", (SQUARE, (1, 0), (2, 2))),
+    ("refuter", "refuted", (SQUARE, (1, 0), (2, 3))),
+    ("worths", "adds", (SQUARE, 1, 1)),
+    ("worths", "counts", (SQUARE, 2)),
+    ("prices", "made_prices", (SQUARE, (5, 1, 1, 1))),
+    ("prices", "cheapest", (SQUARE, (5, 1, 1, 1), 3)),
+    ("prices", "cheapest", (SQUARE, (5, 1, 1, 1), 4)),
 )
 
 
@@ -113,6 +142,19 @@ class InterfaceTest(unittest.TestCase):
         for module, functions in INTERFACE.items():
             for name, arguments in functions.items():
                 self.assert_takes(function_of(module, name), arguments)
+
+    def test_classes_and_their_methods(self):
+        for module, classes in CLASSES.items():
+            for name, (arguments, methods) in classes.items():
+                found = function_of(module, name)
+                self.assertTrue(inspect.isclass(found))
+                self.assertEqual(found.__module__, "trackworth." + module)
+                self.assert_takes(found, arguments)
+                for method, told in methods.items():
+                    self.assertIn(method, vars(found))
+                    static = method in STATIC
+                    self.assertEqual(isinstance(vars(found)[method], staticmethod), static)
+                    self.assert_takes(getattr(found, method), told if static else "self " + told)
 
     def test_each_function_is_defined_in_its_file(self):
         for module, functions in INTERFACE.items():
