@@ -36,6 +36,11 @@ INTERFACE = {
     "refuter": {"refuted": "yard row dealing"},
     "worths": {"adds": "yard a b", "counts": "yard track"},
     "prices": {"made_prices": "yard thing", "cheapest": "yard prices m"},
+    "exchanges": {"swaps": "yard one two", "count_forests": "yard m"},
+    "shut": {"shut": "yard lanes pick", "fragile": "yard m f"},
+    "mirror": {"mirror_dealing": "yard row dealing"},
+    "words": {"is_name": "thing"},
+    "names": {"is_named": "thing", "made_named": "thing"},
 }
 
 # For each module its classes, the errors left out: the arguments, and the methods with theirs.
@@ -50,6 +55,7 @@ CLASSES = {
 
 STATIC = ("again",)
 
+NAMED = (SQUARE, (("a", "b"), ("x", "y")), (5, 1, 0, 9))
 STAND = ((0,), ((1,), ()), ((), ()), 0)
 
 # Calls that are answered. A list is no right argument, but a judge that is handed one has to leave it as it is.
@@ -120,6 +126,18 @@ CALLS = (
     ("prices", "made_prices", (SQUARE, (5, 1, 1, 1))),
     ("prices", "cheapest", (SQUARE, (5, 1, 1, 1), 3)),
     ("prices", "cheapest", (SQUARE, (5, 1, 1, 1), 4)),
+    ("exchanges", "swaps", (SQUARE, (0, 1), (2, 3))),
+    ("exchanges", "count_forests", (SQUARE, 2)),
+    ("shut", "shut", (SQUARE, (0,), (0, 1, 2, 3))),
+    ("shut", "shut", (SQUARE, (), (0, 1, 2, 3))),
+    ("shut", "fragile", (SQUARE, 3, 1)),
+    ("shut", "fragile", (SQUARE, 3, 2)),
+    ("mirror", "mirror_dealing", (SQUARE, (1, 2, 0), (1, 1, 2))),
+    ("words", "is_name", ("a",)),
+    ("words", "is_name", (["a"],)),
+    ("names", "is_named", (NAMED,)),
+    ("names", "is_named", ([SQUARE, [["a", "b"], ["x", "y"]], [5, 1, 0, 9]],)),
+    ("names", "made_named", (NAMED,)),
 )
 
 
