@@ -2,6 +2,7 @@
 
 import ast
 import builtins
+import functools
 import re
 import unittest
 from pathlib import Path
@@ -28,7 +29,7 @@ BARRED = frozenset((
 
 STATEMENTS = (
     ast.Assign, ast.AugAssign, ast.If, ast.While, ast.For, ast.Return, ast.Break, ast.Continue, ast.Pass, ast.Raise,
-    ast.Assert, ast.Try, ast.Expr, ast.FunctionDef, ast.ClassDef, ast.ImportFrom,
+    ast.Assert, ast.Try, ast.Expr, ast.Delete, ast.FunctionDef, ast.ClassDef, ast.ImportFrom,
 )
 
 BARRED_NODES = (
@@ -40,6 +41,7 @@ BARRED_NODES = (
 STATIC = (("journal", "again"),)
 
 
+@functools.cache
 def trees():
     """The name and the tree of each file of the package."""
     return [(path.stem, ast.parse(path.read_text("ascii"))) for path in sorted(PACKAGE.glob("*.py"))]
@@ -165,9 +167,23 @@ class StatementsTest(unittest.TestCase):
                     self.assertIsInstance(node, ast.Expr, name)
                 elif isinstance(node, ast.Assign):
                     self.assertEqual([type(target) for target in node.targets], [ast.Name], name)
-                    ast.literal_eval(node.value)
+                    self.assert_plain(node.value, [told.name for told in tree.body[:at] if hasattr(told, "name")])
                 else:
                     self.assertIsInstance(node, (ast.ImportFrom, ast.FunctionDef, ast.ClassDef), name)
+
+    def assert_plain(self, value, above):
+        """The value is written out; a dict may also have functions that are defined above it."""
+        if isinstance(value, ast.Dict) and all(isinstance(told, ast.Name) for told in value.values):
+            for told in value.values:
+                self.assertIn(told.id, above)
+            for key in value.keys:
+                ast.literal_eval(key)
+        else:
+            ast.literal_eval(value)
+
+    def test_functions_of_a_table_are_called_by_a_name(self):
+        for name, node in nodes(ast.Call):
+            self.assertIsInstance(node.func, (ast.Name, ast.Attribute), name)
 
     def test_only_plain_statements_and_expressions(self):
         for name, node in nodes(ast.stmt):
@@ -236,8 +252,10 @@ class NamesTest(unittest.TestCase):
                 self.assertNotIn(word, words, path.name)
 
     def test_methods_are_those_of_builtin_values_or_own(self):
+        allowed = METHODS | own_methods() | own_attributes()
         for name, node in nodes(ast.Attribute):
-            self.assertIn(node.attr, METHODS | own_methods() | own_attributes(), name)
+            if ast.unparse(node) not in ("self.__class__", "self.__class__.__name__"):
+                self.assertIn(node.attr, allowed, name)
 
     def test_own_methods_and_attributes_have_names_of_their_own(self):
         builtin = [name for kind in (str, bytes, int, list, tuple, dict, set) for name in dir(kind)]

@@ -41,6 +41,14 @@ INTERFACE = {
     "mirror": {"mirror_dealing": "yard row dealing"},
     "words": {"is_name": "thing"},
     "names": {"is_named": "thing", "made_named": "thing"},
+    "readyard": {"read_yard": "text"},
+    "printyard": {"print_yard": "named"},
+    "readtrain": {"read_train": "text"},
+    "printtrain": {"print_train": "row wagons"},
+    "movetexts": {
+        "read_dealing": "named row wagons text", "print_dealing": "named row wagons dealing",
+        "read_moves": "named text", "print_moves": "named moves",
+    },
 }
 
 # For each module its classes, the errors left out: the arguments, and the methods with theirs.
@@ -49,6 +57,12 @@ CLASSES = {
         "Engine": ("yard row dealing", {
             "stand": "", "journal": "", "greens": "", "home": "", "do": "move", "cut": "move done",
             "again": "yard row dealing journal stand",
+        }),
+    },
+    "desk": {
+        "Desk": ("named", {
+            "shut": "hand t", "free": "hand t", "undo": "hand", "redo": "hand", "put": "word row wagons",
+            "drop": "word", "pick": "", "hands_of": "t", "row": "text",
         }),
     },
 }
@@ -138,6 +152,14 @@ CALLS = (
     ("names", "is_named", (NAMED,)),
     ("names", "is_named", ([SQUARE, [["a", "b"], ["x", "y"]], [5, 1, 0, 9]],)),
     ("names", "made_named", (NAMED,)),
+    ("readyard", "read_yard", ("first a b;second x ; track b-x price 30; track a - x;",)),
+    ("printyard", "print_yard", (NAMED,)),
+    ("readtrain", "read_train", ("train red blue green; home blue green red;",)),
+    ("printtrain", "print_train", ((2, 0, 1), ("blue", "green", "red"))),
+    ("movetexts", "read_dealing", (NAMED, (1, 0), ("r", "s"), "r by a - x; s by b - y")),
+    ("movetexts", "print_dealing", (NAMED, (1, 0), ("r", "s"), (0, 3))),
+    ("movetexts", "read_moves", (NAMED, "in a; over a - x; out x")),
+    ("movetexts", "print_moves", (NAMED, (("in", 0), ("over", 0), ("out", 0)))),
 )
 
 
@@ -209,7 +231,7 @@ class GeneralRulesTest(unittest.TestCase):
 
     def test_only_the_promised_kinds_are_returned(self):
         for module, name, arguments in CALLS:
-            self.assertIn(type(function_of(module, name)(*arguments)), (tuple, int, bool, type(None)))
+            self.assertIn(type(function_of(module, name)(*arguments)), (tuple, int, str, bool, type(None)))
 
     def test_arguments_by_name(self):
         for module, name, arguments in CALLS:

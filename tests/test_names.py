@@ -4,9 +4,10 @@ import unittest
 
 from trackworth.errors import BadNamed, BadPrices, BadYard
 from trackworth.names import is_named, made_named
+from tests.grammar import KEPT
 from tests.support import BARE, FULL, LISTS, ODD_VALUES, SQUARE, assert_judges, assert_refused, assert_same, nest
 from tests.test_prices import BAD_PRICES
-from tests.test_words import BAD_NAMES, GOOD_NAMES, KEPT
+from tests.test_words import BAD_NAMES, GOOD_NAMES
 from tests.test_yards import BAD_YARDS
 
 LANES = (("a", "b"), ("x", "y"))

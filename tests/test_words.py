@@ -4,12 +4,8 @@ import string
 import unittest
 
 from trackworth.words import is_name
+from tests.grammar import KEPT
 from tests.support import LISTS, ODD_VALUES, assert_judges, assert_same, nest
-
-KEPT = (
-    "first second track price train home by in over out none shut free undo redo put drop worth serves plan moves bad "
-    "check cheapest counts"
-).split()
 
 GOOD_NAMES = (
     "a", "z", "x9", "a0", "ann", "lane7", "abcdefghijkl", "a12345678901", "z00000000000", "r2d2", "aa", "i", "o",

@@ -2,10 +2,11 @@
 
 
 class Refused(ValueError):
-    """The base class of all other errors; what tells the reason."""
+    """The base class of all other errors; what tells the reason, and kind the name of the class."""
 
     def __init__(self, what):
         self.what = what
+        self.kind = self.__class__.__name__
 
 
 class BadYard(Refused):

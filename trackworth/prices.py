@@ -3,7 +3,7 @@
 from trackworth.errors import BadNumber, BadPrices
 from trackworth.figures import within
 from trackworth.forests import ringless
-from trackworth.yards import MOST_TRACKS, made_yard
+from trackworth.yards import MOST_TRACKS, all_tracks, made_yard
 
 HIGHEST_PRICE = 999
 
@@ -24,7 +24,12 @@ def cheapest(yard, prices, m):
     made_prices(yard, prices)
     if not within(m, 0, MOST_TRACKS):
         raise BadNumber(m)
-    ranked = sorted([(price, t) for t, price in enumerate(prices)])
+    return cheapest_of(yard, prices, all_tracks(yard), m)
+
+
+def cheapest_of(yard, prices, pick, m):
+    """Return the cheapest m tracks of the pick without a ring; None if its rank is below m."""
+    ranked = sorted([(prices[t], t) for t in pick])
     taken = ringless(yard, [t for _, t in ranked])
     if len(taken) < m:
         return None
